@@ -1,0 +1,1 @@
+"""Forerun: dealings run ahead of their turn."""
