@@ -200,12 +200,34 @@ class Form(unittest.TestCase):
                 names.extend(target.id for target in getattr(node, "targets", []))
             self.assertEqual(len(names), len(set(names)), path.name)
 
+    def test_l15_no_local_is_called_like_a_class_or_an_import(self):
+        for path in files():
+            body = ast.parse(path.read_text(encoding="utf-8")).body
+            taken = [one.name for node in body if isinstance(node, ast.ImportFrom) for one in node.names]
+            taken += [node.name for node in body if isinstance(node, ast.ClassDef)]
+            for node in walked(path):
+                if isinstance(node, (ast.arg, ast.Name)):
+                    for name in bound_names(node):
+                        self.assertNotIn(name, taken, path.name)
+
+    def test_l18_no_name_is_a_method_and_a_value(self):
+        methods, values = set(), set()
+        for node, where in each(ast.ClassDef):
+            names = [part.name for part in node.body if isinstance(part, ast.FunctionDef)]
+            self.assertEqual(len(names), len(set(names)), where)
+            methods.update(names)
+        for node, where in each(ast.Attribute):
+            values.update(bound_names(node))
+        self.assertEqual(methods & values, set())
+
     def test_l19_errors(self):
         for node, where in each(ast.ExceptHandler):
             self.assertIsNotNone(node.type, where)
             caught = node.type.elts if isinstance(node.type, ast.Tuple) else [node.type]
             for kind in caught:
                 self.assertNotIn(kind.id, ("Exception", "TypeError"), where)
+        for node, where in each(ast.Raise):
+            self.assertIsInstance(node.exc, ast.Call, where)
 
     def test_l25_methods_of_pythons_own_values_or_of_the_package(self):
         own = [name for node, where in each(ast.FunctionDef, ast.Attribute) for name in bound_names(node)]
