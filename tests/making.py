@@ -1,10 +1,12 @@
-"""Dealings made up for tests, each as its text and as the rows to which that text is to be read."""
+"""Dealings made up for tests, each as its text and as the rows to which that text is to be read; and an own doing of
+them, along the rows of the text, to hold the program's against."""
 
 import random
 
 SEVEN = ["plus", "minus", "times", "over", "rest", "under", "same"]
 SHELVES = ["a", "ab", "b", "silver"]
 SLOTS = ["x", "y", "z", "a"]
+MOST = 10 ** 30
 
 
 class Maker:
@@ -101,3 +103,86 @@ def lists_in(rows):
             found.extend(lists_in(row[2]))
             found.extend(lists_in(row[3]))
     return found
+
+
+class BrokenOff(Exception):
+    pass
+
+
+def own_worth(words, slots):
+    """The worth of a term written ahead; takes its words from the list."""
+    word = words.pop(0)
+    if word not in SEVEN:
+        return slots.get(word, 0) if word.isalpha() else int(word)
+    first = own_worth(words, slots)
+    second = own_worth(words, slots)
+    if word in ("over", "rest") and second == 0:
+        raise BrokenOff("nought")
+    worth = {
+        "plus": lambda: first + second,
+        "minus": lambda: first - second,
+        "times": lambda: first * second,
+        "over": lambda: first // second,
+        "rest": lambda: first - second * (first // second),
+        "under": lambda: int(first < second),
+        "same": lambda: int(first == second),
+    }[word]()
+    if abs(worth) > MOST:
+        raise BrokenOff("great")
+    return worth
+
+
+def block_bounds(texts):
+    """For each if the place of its else (or its end) and of its end; for each else that of its end."""
+    bounds, ifs = {}, []
+    for at, text in enumerate(texts):
+        if text.startswith("if "):
+            ifs.append([at])
+        elif text == "else":
+            ifs[-1].append(at)
+        elif text == "end":
+            found = ifs.pop() + [at]
+            bounds[found[0]] = found[1]
+            if len(found) == 3:
+                bounds[found[1]] = at
+    return bounds
+
+
+def own_paper(text, answer):
+    """The paper of a dealing that is told by the function answer what stands at a place."""
+    texts = text.split("\n") if text else []
+    bounds = block_bounds(texts)
+    slots, known, noted, given, said, at = {}, {}, [], {}, [], 0
+    try:
+        while at < len(texts):
+            words = texts[at].split(" ")
+            form = words.pop(0)
+            if form == "take":
+                shelf, number = words.pop(0), own_worth(words, slots)
+                if (shelf, number) not in known:
+                    known[(shelf, number)] = answer((shelf, number))
+                    noted.append(((shelf, number), known[(shelf, number)]))
+                slots[words[-1]] = known[(shelf, number)]
+            elif form == "give":
+                shelf, number = words.pop(0), own_worth(words, slots)
+                known[(shelf, number)] = given[(shelf, number)] = own_worth(words, slots)
+            elif form == "let":
+                slot = words.pop(0)
+                slots[slot] = own_worth(words, slots)
+            elif form == "say":
+                said.append(own_worth(words, slots))
+            elif form == "off" and own_worth(words, slots) != 0:
+                raise BrokenOff("told")
+            elif form == "else" or form == "if" and own_worth(words, slots) == 0:
+                at = bounds[at]
+            at += 1
+    except BrokenOff as broken:
+        return (("off", str(broken)), noted, [])
+    return (("done", tuple(said)), noted, sorted(given.items()))
+
+
+def own_alone(text, table):
+    outcome, noted, gifts = own_paper(text, lambda place: dict(table).get(place, 0))
+    behind = dict(table)
+    behind.update(gifts)
+    return (outcome, sorted(row for row in behind.items() if row[1] != 0))

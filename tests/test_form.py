@@ -40,6 +40,21 @@ NODES = (
     ast.unaryop, ast.cmpop,
 )
 NO_OPERATORS = (ast.Div, ast.MatMult)
+# L17: as names.
+NEVER_NAMES = set(
+    "attrgetter breakpoint builtins compile copyright credits delattr dir eval exec exit gc getattr globals hasattr help "
+    "id importlib license locals methodcaller os quit setattr super type vars sys register mro elements open input "
+    "version_info with_traceback add_note".split()
+)
+# L22.
+KEYWORDS = {
+    "sorted": {"key", "reverse"}, "min": {"key", "default"}, "max": {"key", "default"}, "sum": {"start"},
+    "enumerate": {"start"}, "zip": {"strict"},
+}
+# L23: what is walked on the spot, and in what.
+WALKED = {"zip", "enumerate", "reversed", "range", "items", "keys", "values"}
+WALKING = {"list", "tuple", "dict", "sorted", "sum", "any", "all", "enumerate", "zip", "min", "max", "join"}
+CHANGES = {"append", "clear", "extend", "insert", "pop", "remove", "reverse", "setdefault", "update"}
 
 
 def files():
@@ -79,6 +94,46 @@ def each(*kinds):
         for node in walked(path):
             if not kinds or isinstance(node, kinds):
                 found.append((node, f"{path.name}, line {getattr(node, 'lineno', 0)}"))
+    return found
+
+
+def called(node):
+    """The name by which a call calls, or None where the node is no such call."""
+    if not isinstance(node, ast.Call):
+        return None
+    return getattr(node.func, "id", getattr(node.func, "attr", None))
+
+
+def with_parents():
+    """All parts of the package that stand in another one, each with that one."""
+    found = []
+    for node, where in each():
+        for part in ast.iter_child_nodes(node):
+            found.append((part, node, where))
+    return found
+
+
+def walked_things(node):
+    """The words of what a loop walks: itself, or through enumerate, zip, reversed, items and their like."""
+    found, ahead = [], [node]
+    while ahead:
+        thing = ahead.pop()
+        if called(thing) in WALKED:
+            ahead.extend(thing.args)
+            ahead.extend([thing.func.value] if isinstance(thing.func, ast.Attribute) else [])
+        else:
+            found.append(ast.unparse(thing))
+    return found
+
+
+def changed_things(node):
+    """The words of all that is changed within a part: by a method, or by an index."""
+    found = []
+    for part in ast.walk(node):
+        if called(part) in CHANGES and isinstance(part.func, ast.Attribute):
+            found.append(ast.unparse(part.func.value))
+        if isinstance(part, ast.Subscript) and isinstance(part.ctx, ast.Store):
+            found.append(ast.unparse(part.value))
     return found
 
 
@@ -190,6 +245,8 @@ class Form(unittest.TestCase):
                     self.assertRegex(name, r"^[A-Za-z][A-Za-z0-9_]*$", where)
             if isinstance(node, ast.Attribute):
                 self.assertNotIn(node.attr, NEVER_ATTRIBUTES, where)
+            if isinstance(node, ast.Name):
+                self.assertNotIn(node.id, NEVER_NAMES, where)
 
     def test_l15_each_name_once_at_the_top(self):
         for path in files():
@@ -228,6 +285,57 @@ class Form(unittest.TestCase):
                 self.assertNotIn(kind.id, ("Exception", "TypeError"), where)
         for node, where in each(ast.Raise):
             self.assertIsInstance(node.exc, ast.Call, where)
+
+    def test_l18_a_class_is_called_or_a_base_or_stands_by_isinstance_and_errors(self):
+        classes = {node.name for node, where in each(ast.ClassDef)}
+        for part, node, where in with_parents():
+            if isinstance(part, ast.Name) and part.id in classes:
+                if isinstance(node, ast.Call) and part in node.args:
+                    self.assertEqual(called(node), "isinstance", where)
+                elif isinstance(node, ast.Attribute):
+                    self.assertEqual(node.attr, "__init__", where)
+                else:
+                    self.assertIsInstance(node, (ast.Call, ast.ClassDef, ast.ExceptHandler, ast.Tuple), where)
+
+    def test_l22_keywords_of_pythons_own(self):
+        for node, where in each(ast.Call):
+            own = isinstance(node.func, ast.Name) and node.func.id in OWN_NAMES or called(node) in METHODS
+            if own:
+                for keyword in node.keywords:
+                    self.assertIn(keyword.arg, KEYWORDS.get(called(node), ()), where)
+
+    def test_l23_walked_at_once(self):
+        for part, node, where in with_parents():
+            if called(part) in WALKED:
+                if isinstance(node, (ast.For, ast.comprehension)):
+                    self.assertIs(node.iter, part, where)
+                else:
+                    self.assertIn(called(node), WALKING, where)
+                    self.assertTrue(called(node) == "zip" or node.args[0] is part, where)
+
+    def test_l23_what_a_loop_walks_is_not_changed_in_it(self):
+        for node, where in each(ast.For):
+            changed = [thing for part in node.body for thing in changed_things(part)]
+            for thing in walked_things(node.iter):
+                self.assertNotIn(thing, changed, where)
+
+    def test_l24_no_set_is_kept_or_walked(self):
+        for part, node, where in with_parents():
+            self.assertNotIsInstance(part, ast.Set, where)
+            if called(part) in ("set", "frozenset"):
+                beside = isinstance(node, (ast.Compare, ast.BinOp)) or called(node) in ("sorted", "len")
+                self.assertTrue(beside, where)
+
+    def test_l25_a_method_is_called_where_it_stands(self):
+        for part, node, where in with_parents():
+            if isinstance(part, ast.Attribute) and part.attr in METHODS and isinstance(part.ctx, ast.Load):
+                self.assertTrue(isinstance(node, ast.Call) and node.func is part, where)
+
+    def test_l28_the_methods_with_two_underscores(self):
+        for node, where in each(ast.FunctionDef):
+            if node.name == "__init__":
+                given = [part.value for part in ast.walk(node) if isinstance(part, ast.Return)]
+                self.assertEqual([value for value in given if value is not None], [], where)
 
     def test_l25_methods_of_pythons_own_values_or_of_the_package(self):
         own = [name for node, where in each(ast.FunctionDef, ast.Attribute) for name in bound_names(node)]

@@ -5,7 +5,7 @@ import unittest
 
 from forerun.plain import alone, one_by_one
 from forerun.reader import read
-from making import SEVEN, Maker
+from making import Maker, own_alone
 
 MOST = 10 ** 30
 NOUGHT = "over 1 0"
@@ -13,82 +13,6 @@ GREAT = f"plus {MOST} 1"
 TABLE = [(("a", -MOST), 3), (("a", -1), -8), (("a", 0), 7), (("a", 1), MOST), (("ab", 0), 5), (("b", 0), -2)]
 
 TOLD_OFF, WAS_GREAT, WAS_NOUGHT = ("off", "told"), ("off", "great"), ("off", "nought")
-
-
-class BrokenOff(Exception):
-    pass
-
-
-def own_worth(words, slots):
-    """The worth of a term written ahead; takes its words from the list."""
-    word = words.pop(0)
-    if word not in SEVEN:
-        return slots.get(word, 0) if word.isalpha() else int(word)
-    first = own_worth(words, slots)
-    second = own_worth(words, slots)
-    if word in ("over", "rest") and second == 0:
-        raise BrokenOff("nought")
-    worth = {
-        "plus": lambda: first + second,
-        "minus": lambda: first - second,
-        "times": lambda: first * second,
-        "over": lambda: first // second,
-        "rest": lambda: first - second * (first // second),
-        "under": lambda: int(first < second),
-        "same": lambda: int(first == second),
-    }[word]()
-    if abs(worth) > MOST:
-        raise BrokenOff("great")
-    return worth
-
-
-def block_bounds(texts):
-    """For each if the place of its else (or its end) and of its end; for each else that of its end."""
-    bounds, ifs = {}, []
-    for at, text in enumerate(texts):
-        if text.startswith("if "):
-            ifs.append([at])
-        elif text == "else":
-            ifs[-1].append(at)
-        elif text == "end":
-            found = ifs.pop() + [at]
-            bounds[found[0]] = found[1]
-            if len(found) == 3:
-                bounds[found[1]] = at
-    return bounds
-
-
-def own_alone(text, table):
-    """An own doing, along the rows of the text, to hold the program's against."""
-    texts = text.split("\n") if text else []
-    bounds = block_bounds(texts)
-    slots, given, said, at = {}, [], [], 0
-    try:
-        while at < len(texts):
-            words = texts[at].split(" ")
-            form = words.pop(0)
-            if form == "take":
-                shelf, number = words.pop(0), own_worth(words, slots)
-                found = [worth for place, worth in table + given if place == (shelf, number)]
-                slots[words[-1]] = found[-1] if found else 0
-            elif form == "give":
-                shelf, number = words.pop(0), own_worth(words, slots)
-                given.append(((shelf, number), own_worth(words, slots)))
-            elif form == "let":
-                slot = words.pop(0)
-                slots[slot] = own_worth(words, slots)
-            elif form == "say":
-                said.append(own_worth(words, slots))
-            elif form == "off" and own_worth(words, slots) != 0:
-                raise BrokenOff("told")
-            elif form == "else" or form == "if" and own_worth(words, slots) == 0:
-                at = bounds[at]
-            at += 1
-    except BrokenOff as broken:
-        return (("off", str(broken)), table)
-    behind = dict(table)
-    behind.update(given)
-    return (("done", tuple(said)), sorted(row for row in behind.items() if row[1] != 0))
 
 
 class Alone(unittest.TestCase):
