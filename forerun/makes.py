@@ -17,6 +17,20 @@ def many_below(ranks, rank):
     return low
 
 
+def put_rank(ranks_at, place, rank):
+    # Into the rising list that the dict has for the place.
+    ranks = ranks_at.setdefault(place, [])
+    ranks.insert(many_below(ranks, rank), rank)
+
+
+def drop_rank(ranks_at, place, rank):
+    ranks = ranks_at[place]
+    ranks.remove(rank)
+    # No empty list is kept, so that what is taken away leaves nothing behind.
+    if ranks == []:
+        ranks_at.pop(place)
+
+
 class Makes:
     def __init__(self, table):
         self.ground = dict(table)
@@ -39,8 +53,7 @@ class Makes:
         self.take_away(rank)
         worths = dict(gifts)
         for place in worths:
-            ranks = self.ranks.setdefault(place, [])
-            ranks.insert(many_below(ranks, rank), rank)
+            put_rank(self.ranks, place, rank)
         self.worths[rank] = worths
 
     def table_for(self, rank):
@@ -59,15 +72,21 @@ class Makes:
     def kept(self):
         return sum([len(self.worths[rank]) for rank in self.worths])
 
+    def places_of(self, rank):
+        return list(self.worths.get(rank, {}))
+
+    def next_above(self, place, rank):
+        # The lowest rank above this one that has a make there, or None.
+        ranks = self.ranks.get(place, [])
+        above = many_below(ranks, rank + 1)
+        return None if above == len(ranks) else ranks[above]
+
     def heed_fold(self, rank):
         if rank < self.folded:
             raise Folded(f"rank {rank} is below the one to which the makes are folded")
 
     def take_away(self, rank):
-        places = list(self.worths.pop(rank, {}))
+        places = self.places_of(rank)
+        self.worths.pop(rank, None)
         for place in places:
-            ranks = self.ranks[place]
-            ranks.remove(rank)
-            # Places without makes are not kept, so that what is folded away leaves nothing behind.
-            if ranks == []:
-                self.ranks.pop(place)
+            drop_rank(self.ranks, place, rank)

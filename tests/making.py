@@ -1,12 +1,24 @@
-"""Dealings made up for tests, each as its text and as the rows to which that text is to be read; and an own doing of
-them, along the rows of the text, to hold the program's against."""
+"""Dealings made up for tests, each as its text and as the rows to which that text is to be read; an own doing of them,
+along the rows of the text, own makes and an own desk, to hold the program's against; and desks set up for tests."""
 
 import random
+
+from forerun.codes import code_of
+from forerun.desk import Desk
+from forerun.errors import Folded
+from forerun.reader import read
+from forerun.ways import Highest, Turning, Way
 
 SEVEN = ["plus", "minus", "times", "over", "rest", "under", "same"]
 SHELVES = ["a", "ab", "b", "silver"]
 SLOTS = ["x", "y", "z", "a"]
 MOST = 10 ** 30
+# Each way with an own choosing, of the ranks that wait and of how often it was asked ahead.
+WAYS = [
+    (Way, lambda ranks, often: ranks[0]),
+    (Highest, lambda ranks, often: ranks[-1]),
+    (Turning, lambda ranks, often: ranks[often % len(ranks)]),
+]
 
 
 class Maker:
@@ -86,6 +98,19 @@ class Maker:
         texts, told = self.rows(self.chance.randrange(41) if most is None else most, 5)
         return ("\n".join(texts), told)
 
+    def busy(self):
+        """The text of a dealing that takes from few places and gives to them again, so that many of them meet."""
+        rows = []
+        for k in range(self.chance.randrange(1, 7)):
+            slot, number, more = self.one_of("xyz"), self.chance.randrange(4), self.chance.randrange(-2, 4)
+            give = f"give a {number} plus {slot} {more}"
+            rows.append(self.one_of([
+                f"take a {number} as {slot}", f"take a {number} as {slot}", f"take a rest {slot} 3 as {slot}", give,
+                give, f"say {slot}", f"if rest {slot} 2\n{give}\nend", f"if under {slot} 2\nsay 1\nelse\n{give}\nend",
+                f"off under 9 {slot}", f"say over 5 {slot}",
+            ]))
+        return "\n".join(rows)
+
     def table(self):
         places = {}
         for shelf in SHELVES:
@@ -148,8 +173,9 @@ def block_bounds(texts):
     return bounds
 
 
-def own_paper(text, answer):
-    """The paper of a dealing that is told by the function answer what stands at a place."""
+def own_steps(text):
+    """A generator of the steps of a dealing: at each it yields the place that is asked for, or None, and is sent what
+    stands there; behind the last one it gives back the paper."""
     texts = text.split("\n") if text else []
     bounds = block_bounds(texts)
     slots, known, noted, given, said, at = {}, {}, [], {}, [], 0
@@ -158,12 +184,20 @@ def own_paper(text, answer):
             words = texts[at].split(" ")
             form = words.pop(0)
             if form == "take":
-                shelf, number = words.pop(0), own_worth(words, slots)
-                if (shelf, number) not in known:
-                    known[(shelf, number)] = answer((shelf, number))
-                    noted.append(((shelf, number), known[(shelf, number)]))
-                slots[words[-1]] = known[(shelf, number)]
-            elif form == "give":
+                try:
+                    place = (words.pop(0), own_worth(words, slots))
+                except BrokenOff:
+                    yield None
+                    raise
+                answer = yield None if place in known else place
+                if place not in known:
+                    known[place] = answer
+                    noted.append((place, answer))
+                slots[words[-1]] = known[place]
+            elif form != "end" and (form != "else" or bounds[at] > at + 1):
+                # An end is no step, nor is an else with nothing behind it.
+                yield None
+            if form == "give":
                 shelf, number = words.pop(0), own_worth(words, slots)
                 known[(shelf, number)] = given[(shelf, number)] = own_worth(words, slots)
             elif form == "let":
@@ -181,8 +215,144 @@ def own_paper(text, answer):
     return (("done", tuple(said)), noted, sorted(given.items()))
 
 
+def sent(steps, answer):
+    """A tuple (place asked for by the step that is now due, None), or (None, paper) where there is none."""
+    try:
+        return (steps.send(answer), None)
+    except StopIteration as over:
+        return (None, over.value)
+
+
+def own_paper(text, answer):
+    """The paper of a dealing that is told by the function answer what stands at a place."""
+    steps = own_steps(text)
+    place, paper = sent(steps, None)
+    while paper is None:
+        place, paper = sent(steps, None if place is None else answer(place))
+    return paper
+
+
+def own_papers(texts, table):
+    """A tuple (papers of the dealings done one by one, tables ahead of and behind each)."""
+    papers, tables = [], [table]
+    for text in texts:
+        papers.append(own_paper(text, lambda place: dict(tables[-1]).get(place, 0)))
+        tables.append(own_alone(text, tables[-1])[1])
+    return (papers, tables)
+
+
 def own_alone(text, table):
     outcome, noted, gifts = own_paper(text, lambda place: dict(table).get(place, 0))
     behind = dict(table)
     behind.update(gifts)
     return (outcome, sorted(row for row in behind.items() if row[1] != 0))
+
+
+class OwnMakes:
+    """A list of all makes, walked whole at each asking."""
+
+    def __init__(self, table):
+        self.ground, self.bound, self.makes = list(table), 0, []
+
+    def heed(self, rank):
+        if rank < self.bound:
+            raise Folded
+
+    def seen(self, place, rank):
+        self.heed(rank)
+        found = [worth for at, worth in self.ground if at == place]
+        for maker, at, worth in sorted(self.makes):
+            if at == place and maker < rank:
+                found.append(worth)
+        return found[-1] if found else 0
+
+    def lay(self, rank, gifts):
+        self.heed(rank)
+        self.makes = [make for make in self.makes if make[0] != rank] + [(rank, at, worth) for at, worth in gifts]
+
+    def table_for(self, rank):
+        self.heed(rank)
+        places = sorted({at for at, worth in self.ground} | {at for maker, at, worth in self.makes})
+        return [(at, self.seen(at, rank)) for at in places if self.seen(at, rank) != 0]
+
+    def fold(self, rank):
+        self.ground = self.table_for(rank)
+        self.makes = [make for make in self.makes if make[0] >= rank]
+        self.bound = rank
+
+    def kept(self):
+        return len(self.makes)
+
+
+class OwnDesk:
+    """A desk that looks at everything anew at each move. choose is a function of the ranks that wait and of how often
+    it was asked ahead; a rank is "waiting", "held", "settled", or has a paper."""
+
+    def __init__(self, table, hands, choose, first=0):
+        self.makes, self.held, self.choose, self.asked = OwnMakes(table), [None] * hands, choose, 0
+        self.first, self.texts, self.states, self.papers = first, {}, {}, []
+
+    def add(self, text):
+        rank = self.first + len(self.texts)
+        self.texts[rank], self.states[rank] = text, "waiting"
+        return rank
+
+    def settled(self):
+        return self.first + len(self.papers)
+
+    def fold(self):
+        self.makes.fold(self.settled())
+
+    def move(self, hand):
+        if self.held[hand] is None:
+            return self.free(hand)
+        rank, steps, place, paper = self.held[hand]
+        if paper is not None:
+            self.makes.lay(rank, paper[2])
+            self.states[rank], self.held[hand] = paper, None
+            return ("lay", hand, rank)
+        worth = None if place is None else self.makes.seen(place, rank)
+        self.held[hand] = (rank, steps) + sent(steps, worth)
+        return ("step", hand, rank) if place is None else ("read", hand, rank, place, worth)
+
+    def free(self, hand):
+        laid = [rank for rank, state in sorted(self.states.items()) if isinstance(state, tuple)]
+        changes = {rank: self.changes(rank) for rank in laid}
+        lowest = self.settled()
+        if lowest in laid and not changes[lowest]:
+            self.papers.append(self.states[lowest])
+            self.states[lowest] = "settled"
+            return ("settle", hand, lowest)
+        for rank in laid:
+            if changes[rank]:
+                self.states[rank] = "waiting"
+                return ("again", hand, rank) + changes[rank][0]
+        waiting = [rank for rank, state in sorted(self.states.items()) if state == "waiting"]
+        if not waiting:
+            return ("rest", hand)
+        rank = self.choose(waiting, self.asked)
+        self.asked += 1
+        steps = own_steps(self.texts[rank])
+        self.states[rank], self.held[hand] = "held", (rank, steps) + sent(steps, None)
+        return ("take", hand, rank)
+
+    def changes(self, rank):
+        noted = [(place, worth, self.makes.seen(place, rank)) for place, worth in self.states[rank][1]]
+        return [note for note in noted if note[1] != note[2]]
+
+
+def code(text):
+    return code_of(read(text))
+
+
+def desk_of(texts, table=(), hands=2, way=None, first=0):
+    """A desk with the codes of these texts added."""
+    desk = Desk(list(table), hands, Way() if way is None else way, first)
+    for text in texts:
+        desk.add(code(text))
+    return desk
+
+
+def moved(desk, hands):
+    """What these hands tell, moved one after the other."""
+    return [desk.move(hand) for hand in hands]

@@ -26,6 +26,9 @@ METHODS = set(
     "items join keys ljust lower lstrip partition pop remove replace reverse rfind rjust rpartition rsplit rstrip "
     "setdefault split splitlines startswith strip update upper values zfill bit_length".split()
 )
+# L26: which names of Python's own values a method, or a value, of an object may bear.
+OWN_TOO = METHODS | OWN_METHODS | {"add", "discard"}
+VALUES_TOO = set("count index title find get join lower upper split strip copy add".split())
 NEVER_WORDS = re.compile(
     r"\b(type|typing|typing_extensions|enum|Enum|IntEnum|StrEnum|Flag|IntFlag|Generic|Protocol|ABC|ABCMeta|namedtuple"
     r"|NamedTuple|TypedDict|TYPE_CHECKING|abstractmethod)\b|dataclass|overload|contextmanager"
@@ -341,6 +344,14 @@ class Form(unittest.TestCase):
         own = [name for node, where in each(ast.FunctionDef, ast.Attribute) for name in bound_names(node)]
         for node, where in each(ast.Attribute):
             self.assertIn(node.attr, METHODS | OWN_METHODS | set(own), where)
+
+    def test_l26_own_methods_and_values(self):
+        taken = {name for kind in (str, int, list, dict, set, bytes) for name in dir(kind)}
+        for node, where in each(ast.ClassDef):
+            names = {part.name for part in node.body if isinstance(part, ast.FunctionDef)}
+            self.assertEqual(names & taken - OWN_TOO, set(), where)
+        for node, where in each(ast.Attribute):
+            self.assertEqual(set(bound_names(node)) & taken - VALUES_TOO, set(), where)
 
     def test_l20_is_beside_none_and_truths_alone(self):
         for node, where in each(ast.Compare):

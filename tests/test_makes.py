@@ -9,49 +9,13 @@ from forerun.errors import Folded, ForerunError
 from forerun.makes import Makes
 from forerun.plain import one_by_one
 from forerun.runs import Run
-from making import Maker
+from making import Maker, OwnMakes
 
 MOST = 10 ** 30
 TOP = 10 ** 29
 A, B, C, D = ("a", 0), ("a", 1), ("b", -1), ("b", MOST)
 PLACES = [A, B, C, D, ("ab", 0), ("silver", -MOST)]
 GROUND = [(A, 7), (C, -2), (D, MOST)]
-
-
-class OwnMakes:
-    """A list of all makes, walked whole at each asking."""
-
-    def __init__(self, table):
-        self.ground, self.bound, self.makes = list(table), 0, []
-
-    def heed(self, rank):
-        if rank < self.bound:
-            raise Folded
-
-    def seen(self, place, rank):
-        self.heed(rank)
-        found = [worth for at, worth in self.ground if at == place]
-        for maker, at, worth in sorted(self.makes):
-            if at == place and maker < rank:
-                found.append(worth)
-        return found[-1] if found else 0
-
-    def lay(self, rank, gifts):
-        self.heed(rank)
-        self.makes = [make for make in self.makes if make[0] != rank] + [(rank, at, worth) for at, worth in gifts]
-
-    def table_for(self, rank):
-        self.heed(rank)
-        places = sorted({at for at, worth in self.ground} | {at for maker, at, worth in self.makes})
-        return [(at, self.seen(at, rank)) for at in places if self.seen(at, rank) != 0]
-
-    def fold(self, rank):
-        self.ground = self.table_for(rank)
-        self.makes = [make for make in self.makes if make[0] >= rank]
-        self.bound = rank
-
-    def kept(self):
-        return len(self.makes)
 
 
 class Seen(unittest.TestCase):

@@ -5,20 +5,15 @@ import unittest
 
 from forerun.codes import code_of
 from forerun.plain import alone, one_by_one
-from forerun.reader import read
 from forerun.runs import Run, fed
 from forerun.tables import laid_on
-from making import Maker, own_paper
+from making import Maker, code, own_paper
 
 MOST = 10 ** 30
 NOUGHT = "over 1 0"
 GREAT = f"plus {MOST} 1"
 TABLE = [(("a", -1), -8), (("a", 0), 7), (("a", 1), MOST), (("ab", 0), 5), (("b", 0), -2)]
 BREAKS = [("off 1", "told"), (f"say {GREAT}", "great"), (f"say {NOUGHT}", "nought")]
-
-
-def code(text):
-    return code_of(read(text))
 
 
 def behind_all(run, worth=0):

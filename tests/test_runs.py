@@ -4,17 +4,12 @@ import copy
 import unittest
 
 from forerun.codes import code_of
-from forerun.reader import read
 from forerun.runs import Run
-from making import Maker, own_paper
+from making import Maker, code, own_paper
 
 MOST = 10 ** 30
 NOUGHT = "over 1 0"
 GREAT = f"plus {MOST} 1"
-
-
-def code(text):
-    return code_of(read(text))
 
 
 def run_of(text):
