@@ -1,5 +1,6 @@
 """Dealings made up for tests, each as its text and as the rows to which that text is to be read; an own doing of them,
-along the rows of the text, own makes and an own desk, to hold the program's against; and desks set up for tests."""
+along the rows of the text, own makes, an own desk, own lines of a log and an own house, to hold the program's against;
+papers made up, and desks set up for tests."""
 
 import random
 
@@ -315,6 +316,12 @@ class OwnDesk:
         self.held[hand] = (rank, steps) + sent(steps, worth)
         return ("step", hand, rank) if place is None else ("read", hand, rank, place, worth)
 
+    def finish(self):
+        told = []
+        while self.settled() < self.first + len(self.texts):
+            told.append(self.move(len(told) % len(self.held)))
+        return told
+
     def free(self, hand):
         laid = [rank for rank, state in sorted(self.states.items()) if isinstance(state, tuple)]
         changes = {rank: self.changes(rank) for rank in laid}
@@ -339,6 +346,99 @@ class OwnDesk:
     def changes(self, rank):
         noted = [(place, worth, self.makes.seen(place, rank)) for place, worth in self.states[rank][1]]
         return [note for note in noted if note[1] != note[2]]
+
+
+def paper(notes=(), gifts=(), outcome=("done", ())):
+    """A paper that noted and gave at these places."""
+    return (outcome, [(place, 3) for place in notes], [(place, 5) for place in sorted(gifts)])
+
+
+def made_up(chance, many, places):
+    """Papers that noted and gave at some of these places."""
+    papers = []
+    for k in range(many):
+        notes, gifts = chance.sample(places, chance.randrange(4)), chance.sample(places, chance.choice([0, 1, 1, 2]))
+        papers.append(paper(notes, gifts) if chance.randrange(5) else paper(notes, [], ("off", "told")))
+    return papers
+
+
+def own_meet(one, other):
+    gave, other_gave = {row[0] for row in one[2]}, {row[0] for row in other[2]}
+    noted, other_noted = {row[0] for row in one[1]}, {row[0] for row in other[1]}
+    return bool(gave & other_gave or gave & other_noted or noted & other_gave)
+
+
+def own_line(body):
+    """A body with its check behind it, summed up sign by sign."""
+    total, factor = 0, 1
+    for sign in body:
+        total = (total + ord(sign) * factor) % 1009
+        factor = 1 if factor == 1008 else factor + 1
+    return f"{body} {total:04d}"
+
+
+def own_rows(rows):
+    return "".join(f" {shelf} {number} {worth}" for (shelf, number), worth in rows)
+
+
+def own_mark(rank, table):
+    return own_line(f"mark {rank} ;{own_rows(table)}")
+
+
+def own_deal(rank, paper):
+    (ending, rest), noted, gifts = paper
+    words = [rest] if ending == "off" else [str(worth) for worth in rest]
+    return own_line(" ".join(["deal", str(rank), ending] + words + [";"]) + own_rows(gifts))
+
+
+def own_log(lines):
+    return "".join(line + "\n" for line in lines)
+
+
+def own_lines(rank, table, parts):
+    """The lines of a log, its first mark and one for each part, a paper or "mark"; in a tuple with a list of what
+    coming up tells behind each of them."""
+    lines, told, ups = [own_mark(rank, table)], [], [(rank, table, [])]
+    for part in parts:
+        if part == "mark":
+            lines.append(own_mark(rank, table))
+        else:
+            lines.append(own_deal(rank, part))
+            worths = dict(table)
+            worths.update(part[2])
+            table = sorted(row for row in worths.items() if row[1] != 0)
+            told = told + [(rank, part[0])]
+            rank += 1
+        ups.append((rank, table, told))
+    return (lines, ups)
+
+
+class OwnHouse(OwnDesk):
+    """A desk that writes a line for each dealing that it settles; texts are all dealings that it will be handed, from
+    the rank on, each done one by one ahead: what it tells of the table and the answers is taken from there."""
+
+    def __init__(self, lines, rank, table, told, hands, choose, texts):
+        super().__init__(table, hands, choose, rank)
+        self.lines, self.told, self.coming = list(lines), list(told), texts
+        self.due, self.tables = own_papers(texts, table)
+
+    def hand_in(self):
+        return self.add(self.coming[len(self.texts)])
+
+    def move(self, hand):
+        did = super().move(hand)
+        if did[0] == "settle":
+            paper = self.due[did[2] - self.first]
+            self.lines.append(own_deal(did[2], paper))
+            self.told.append((did[2], paper[0]))
+        return did
+
+    def table(self):
+        return self.tables[self.settled() - self.first]
+
+    def mark(self):
+        self.lines.append(own_mark(self.settled(), self.table()))
+        self.fold()
 
 
 def code(text):

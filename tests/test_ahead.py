@@ -57,16 +57,11 @@ class Course:
             else:
                 self.move(self.chance.randrange(self.hands))
             self.hold()
-        self.case.assertEqual(self.desk.finish(), self.own_finish())
+        told = self.desk.finish()
+        self.case.assertEqual(told, self.own.finish())
+        self.told.extend(told)
         self.hold()
         self.case.assertEqual(self.desk.settled(), self.first + len(self.texts))
-
-    def own_finish(self):
-        told = []
-        while self.own.settled() < self.first + len(self.texts):
-            told.append(self.own.move(len(told) % self.hands))
-        self.told.extend(told)
-        return told
 
 
 class Ahead(unittest.TestCase):

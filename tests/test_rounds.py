@@ -7,22 +7,11 @@ import unittest
 from forerun.rounds import chain, meet, rounds
 from forerun.runs import fed
 from forerun.tables import laid_on
-from making import Maker, code
+from making import Maker, code, made_up, own_meet, paper
 
 MOST = 10 ** 30
 A, B, C, D = ("a", 0), ("a", 1), ("b", 0), ("b", -MOST)
 PLACES = [A, B, C, D, ("aa", 0), ("silver", MOST)]
-
-
-def paper(notes=(), gifts=(), outcome=("done", ())):
-    """A paper that noted and gave at these places."""
-    return (outcome, [(place, 3) for place in notes], [(place, 5) for place in sorted(gifts)])
-
-
-def own_meet(one, other):
-    gave, other_gave = {row[0] for row in one[2]}, {row[0] for row in other[2]}
-    noted, other_noted = {row[0] for row in one[1]}, {row[0] for row in other[1]}
-    return bool(gave & other_gave or gave & other_noted or noted & other_gave)
 
 
 def own_rounds(papers):
@@ -32,14 +21,6 @@ def own_rounds(papers):
         below = [heights[lower] + 1 for lower in range(rank) if own_meet(papers[lower], one)]
         heights.append(max(below, default=0))
     return [[rank for rank, height in enumerate(heights) if height == at] for at in sorted(set(heights))]
-
-
-def made_up(chance, many, places):
-    papers = []
-    for k in range(many):
-        notes, gifts = chance.sample(places, chance.randrange(4)), chance.sample(places, chance.choice([0, 1, 1, 2]))
-        papers.append(paper(notes, gifts) if chance.randrange(5) else paper(notes, [], ("off", "told")))
-    return papers
 
 
 class Meet(unittest.TestCase):
