@@ -27,7 +27,8 @@ class Desk:
 
     def move(self, hand):
         if hand < 0 or hand >= self.hands:
-            raise NoHand(f"there is no hand {hand}")
+            # Without the number: Python fails in a way of its own where it writes figures by the thousand.
+            raise NoHand("no hand of this desk")
         if hand not in self.held:
             return self.moved_free(hand)
         rank = self.held[hand][0]

@@ -83,7 +83,8 @@ class Makes:
 
     def heed_fold(self, rank):
         if rank < self.folded:
-            raise Folded(f"rank {rank} is below the one to which the makes are folded")
+            # Without the rank: Python fails in a way of its own where it writes figures by the thousand.
+            raise Folded("a rank below the one to which the makes are folded")
 
     def take_away(self, rank):
         places = self.places_of(rank)

@@ -11,6 +11,8 @@ MOST = 10 ** 30
 TOP = 10 ** 29
 A, B, C = ("a", 0), ("a", 1), ("b", -1)
 TABLE = [(A, 7), (C, -2)]
+# Python writes no number of more than 4300 figures, if not told otherwise.
+GREAT = [10 ** 639, 10 ** 640, 10 ** 4299, 10 ** 4300, 10 ** 5000, 10 ** 20000]
 COUNT = "take a 0 as x\ngive a 0 plus x 1\nsay x"
 
 
@@ -462,7 +464,8 @@ class Adding(unittest.TestCase):
 
 class NoSuchHand(unittest.TestCase):
     def refuses(self, desk, hands):
-        for hand in (-1, -2, -hands, -TOP, hands, hands + 1, 8 * hands, MOST, 10 ** 40):
+        small = [-1, -2, -hands, -TOP, hands, hands + 1, 8 * hands, MOST, 10 ** 40]
+        for hand in small + GREAT + [-number for number in GREAT]:
             with self.assertRaises(NoHand) as caught:
                 desk.move(hand)
             self.assertIsInstance(caught.exception, ForerunError)

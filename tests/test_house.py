@@ -202,7 +202,7 @@ class Moved(unittest.TestCase):
         for hands in range(1, 9):
             house, other = house_of(TEXTS, TABLE, hands, Turning()), house_of(TEXTS, TABLE, hands, Turning())
             for k in range(30):
-                for wrong in (-1, -hands, hands, hands + 1, TOP, -TOP):
+                for wrong in (-1, -hands, hands, hands + 1, TOP, -TOP, 10 ** 4300, -(10 ** 4300), 10 ** 9000):
                     before = state(house)
                     with self.assertRaises(NoHand) as caught:
                         house.move(wrong)

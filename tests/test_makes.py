@@ -322,6 +322,13 @@ class Fold(unittest.TestCase):
         makes.fold(0)
         self.assertEqual((self.all_seen(makes, 0), makes.kept()), (before, 7))
 
+    def test_ranks_of_very_many_figures_are_refused_alike(self):
+        for great in (10 ** 60, 10 ** 4300, 10 ** 5000, 10 ** 20000):
+            self.refuses(self.laid(), -great)
+            makes = self.laid()
+            makes.fold(great)
+            self.refuses(makes, great - 1)
+
     def test_again_to_the_same_rank(self):
         makes = self.laid()
         makes.fold(4)
