@@ -8,7 +8,8 @@ from forerun.tables import laid_on
 
 def heed_order(order, many):
     if sorted(order) != list(range(many)):
-        raise NoOrder(f"not each rank below {many} once: {order!r}")
+        # Without the order: Python fails in a way of its own where it writes figures by the thousand.
+        raise NoOrder(f"not each rank below {many} once")
 
 
 def keeps(papers, order):

@@ -179,11 +179,13 @@ class NoOrders(unittest.TestCase):
     """What is no order is refused."""
 
     def refused(self, many, order):
+        before = list(order)
         with self.assertRaises(NoOrder, msg=order) as caught:
             keeps([paper([], [A])] * many, order)
         self.assertIsInstance(caught.exception, ForerunError)
         with self.assertRaises(NoOrder, msg=order):
             in_order([code(COUNT)] * many, TABLE, order)
+        self.assertTrue(order == before)
 
     def test_of_three(self):
         for order in NO_ORDERS_OF_THREE:
@@ -201,6 +203,16 @@ class NoOrders(unittest.TestCase):
         order = list(range(300))
         for wrong in [order[:-1], order[1:], order + [300], order + [0], order[:-1] + [300], [-1] + order[1:], []]:
             self.refused(300, wrong)
+
+    def test_numbers_of_very_many_figures(self):
+        # Python writes no number of more than 4300 figures, if not told otherwise.
+        for number in (10 ** 60, 10 ** 639, 10 ** 640, 10 ** 4299, 10 ** 4300, 10 ** 5000, 10 ** 20000):
+            for great in (number, -number):
+                for many in range(4):
+                    self.refused(many, [great])
+                    self.refused(many, [great] * 3)
+                    self.refused(many, list(range(many)) + [great])
+                    self.refused(many, [great] + list(range(many - 1)))
 
     def test_each_list_of_small_numbers(self):
         for many in range(4):
